@@ -1,0 +1,1 @@
+"""Kbestwood: the best trees of a text, in order, without making all."""

@@ -1,0 +1,117 @@
+"""The two scales, which tell how weights are put together, and lumps of weights."""
+
+from kbestwood.errors import NoScale
+from kbestwood.fractions import compared, product_of, sum_of
+
+
+class Scale:
+    """What both scales share; only Cost and Chance tell all of it."""
+
+    def word(self):
+        """The scale's word."""
+        raise NotImplementedError("a plain scale has no word")
+
+    def empty(self):
+        """The weight of nothing."""
+        raise NotImplementedError("a plain scale has no weights")
+
+    def takes(self, weight):
+        """Whether a fraction is a weight of the scale."""
+        raise NotImplementedError("a plain scale has no weights")
+
+    def join(self, one, other):
+        """Two weights together."""
+        raise NotImplementedError("a plain scale joins nothing")
+
+    def ahead(self, one, other):
+        """Whether the one weight stands ahead of the other."""
+        raise NotImplementedError("a plain scale has no order")
+
+    def lumps_joined(self, one, other):
+        """The lump of all things made of one of the one and one of the other."""
+        raise NotImplementedError("a plain scale joins nothing")
+
+    def together(self, weights):
+        """A list of weights together."""
+        whole = self.empty()
+        for weight in weights:
+            whole = self.join(whole, weight)
+        return whole
+
+
+class Cost(Scale):
+    """Weights are added, and the lesser one stands ahead."""
+
+    def word(self):
+        """The scale's word."""
+        return "cost"
+
+    def empty(self):
+        """The weight of nothing."""
+        return (0, 1)
+
+    def takes(self, weight):
+        """Whether a fraction is a weight of the scale: any is."""
+        return True
+
+    def join(self, one, other):
+        """Two weights together: their sum."""
+        return sum_of(one, other)
+
+    def ahead(self, one, other):
+        """Whether the one weight stands ahead of the other: the lesser one does."""
+        return compared(one, other) < 0
+
+    def lumps_joined(self, one, other):
+        """The lump of all things made of one of the one and one of the other."""
+        # Each weight of the one stands in as many things as the other counts, and the other way about.
+        from_one = product_of((other[0], 1), one[1])
+        from_other = product_of((one[0], 1), other[1])
+        return (one[0] * other[0], sum_of(from_one, from_other))
+
+
+class Chance(Scale):
+    """Weights are multiplied, and the greater one stands ahead."""
+
+    def word(self):
+        """The scale's word."""
+        return "chance"
+
+    def empty(self):
+        """The weight of nothing."""
+        return (1, 1)
+
+    def takes(self, weight):
+        """Whether a fraction is a weight of the scale: those above nought are."""
+        return weight[0] > 0
+
+    def join(self, one, other):
+        """Two weights together: their product."""
+        return product_of(one, other)
+
+    def ahead(self, one, other):
+        """Whether the one weight stands ahead of the other: the greater one does."""
+        return compared(one, other) > 0
+
+    def lumps_joined(self, one, other):
+        """The lump of all things made of one of the one and one of the other."""
+        return (one[0] * other[0], product_of(one[1], other[1]))
+
+
+def scale_of(word):
+    """The scale of a word."""
+    if word == "cost":
+        return Cost()
+    if word == "chance":
+        return Chance()
+    raise NoScale("a scale's word is cost or chance")
+
+
+def lump_of(weight):
+    """The lump of one weight."""
+    return (1, weight)
+
+
+def lumps_beside(one, other):
+    """The lump of the things of two lumps side by side."""
+    return (one[0] + other[0], sum_of(one[1], other[1]))
