@@ -31,6 +31,12 @@ WORDS = re.compile(r"\b(type|typing|typing_extensions|enum|Enum|IntEnum|StrEnum|
                    r"ABCMeta|namedtuple|NamedTuple|TypedDict|TYPE_CHECKING|abstractmethod)\b|"
                    r"dataclass|overload|contextmanager")
 
+TOP = (ast.FunctionDef, ast.ClassDef, ast.ImportFrom)
+WALKED = ("zip", "enumerate", "reversed", "range", "items", "keys", "values")
+WALKERS = ("list", "tuple", "dict", "sorted", "sum", "any", "all", "enumerate", "zip", "bytes", "min", "max")
+NO_VALUES = set("""items keys values pop update append clear extend insert remove reverse setdefault sort args encode
+decode hex fromhex format mro register elements open input""".split())
+
 UNDERSCORED = {"__init__", "__eq__", "__repr__", "__str__", "__len__"}
 
 
@@ -115,6 +121,90 @@ def import_faults(tree, defined):
     return faults
 
 
+def top_faults(tree):
+    """Faults of the top of a file, and of the bodies of classes."""
+    faults = []
+    for node in tree.body[1:] if ast.get_docstring(tree) else tree.body:
+        plain = isinstance(node, ast.Assign) and len(node.targets) == 1 and isinstance(node.targets[0], ast.Name)
+        if plain and not is_plain(node.value) or not plain and not isinstance(node, TOP):
+            faults.append(f"L3 at the top of a file: line {node.lineno}")
+        if isinstance(node, ast.ClassDef):
+            within = node.body[1:] if ast.get_docstring(node) else node.body
+            if len(node.bases) > 1 or node.keywords or not all(isinstance(part, ast.FunctionDef) for part in within):
+                faults.append(f"L5 {node.name}")
+    return faults
+
+
+def is_plain(node):
+    """Whether a value is written out."""
+    try:
+        ast.literal_eval(node)
+    except ValueError:
+        return False
+    return True
+
+
+def own_name_faults(tree):
+    """Parameters, locals and inner defs that are called like a class or an import of the file."""
+    taken = {node.name for node in tree.body if isinstance(node, ast.ClassDef)}
+    taken |= {alias.name for node in tree.body if isinstance(node, ast.ImportFrom) for alias in node.names}
+    given = {node.arg for node in ast.walk(tree) if isinstance(node, ast.arg)}
+    given |= {node.id for node in ast.walk(tree) if isinstance(node, ast.Name) and isinstance(node.ctx, ast.Store)}
+    return [f"L15 {name}" for name in sorted(taken & given)]
+
+
+def place_faults(tree):
+    """Things that are kept, though they are to be walked on the spot; sets that are walked or handed on."""
+    faults = []
+    above = {kid: node for node in ast.walk(tree) for kid in ast.iter_child_nodes(node)}
+    for node in above:
+        holder = above[node]
+        called = holder.func.id if isinstance(holder, ast.Call) and isinstance(holder.func, ast.Name) else ""
+        walked = isinstance(holder, (ast.For, ast.comprehension)) and holder.iter is node
+        asked = isinstance(holder, ast.Compare) and node in holder.comparators
+        if is_call(node, WALKED) and not walked and not asked and called not in WALKERS:
+            faults.append(f"L23 line {node.lineno}")
+        kept = isinstance(holder, ast.Assign) and isinstance(holder.targets[0], ast.Name)
+        if (isinstance(node, (ast.Set, ast.SetComp)) or is_call(node, ("set", "frozenset"))) and not kept and not asked:
+            if called not in ("sorted", "len"):
+                faults.append(f"L24 line {node.lineno}")
+    return faults
+
+
+def is_call(node, names):
+    """Whether a node calls one of some names, by itself or as a method."""
+    if not isinstance(node, ast.Call):
+        return False
+    return getattr(node.func, "id", getattr(node.func, "attr", "")) in names
+
+
+def methods_in(tree):
+    """The names of the methods of a file's classes."""
+    return {part.name for node in tree.body if isinstance(node, ast.ClassDef) for part in node.body
+            if isinstance(part, ast.FunctionDef)}
+
+
+def value_faults(trees):
+    """Names that are a method in one class and a value in another, and values that no class gives."""
+    methods = set().union(*[methods_in(tree) for tree in trees])
+    asked = [node for tree in trees for node in ast.walk(tree) if isinstance(node, ast.Attribute)]
+    given = {node.attr for node in asked if isinstance(node.ctx, ast.Store)}
+    called = {id(node.func) for tree in trees for node in ast.walk(tree) if isinstance(node, ast.Call)}
+    faults = [f"L18 {name}" for name in sorted(methods & given)]
+    faults.extend(f"L18 {node.attr}" for node in asked if id(node) not in called and node.attr not in given)
+    return faults + [f"L26 {name}" for name in sorted(given & NO_VALUES)]
+
+
+def has_ring(drawn):
+    """Whether modules draw from one another in a ring; drawn tells from which modules each one draws."""
+    while drawn:
+        kept = {name: others & set(drawn) for name, others in drawn.items() if others & set(drawn)}
+        if len(kept) == len(drawn):
+            return True
+        drawn = kept
+    return False
+
+
 def method_faults(tree, own):
     """Calls of methods that are neither the package's own nor among those of L25."""
     called = [node.func.attr for node in ast.walk(tree)
@@ -126,6 +216,7 @@ def faults_of(text, defined, own):
     """All faults of a file."""
     tree = ast.parse(text)
     faults = sign_faults(text) + name_faults(tree) + import_faults(tree, defined) + method_faults(tree, own)
+    faults += top_faults(tree) + own_name_faults(tree) + place_faults(tree)
     for node in ast.walk(tree):
         faults.extend(node_faults(node))
     return faults
@@ -159,6 +250,21 @@ class Language(unittest.TestCase):
             with self.subTest(path=path.name):
                 self.assertEqual(faults_of(text, defined, own), [])
 
+    def test_the_files_together(self):
+        trees = {f"kbestwood.{path.stem}": ast.parse(text) for path, text in package_texts().items()}
+        drawn = {name: {node.module for node in tree.body if isinstance(node, ast.ImportFrom)}
+                 for name, tree in trees.items()}
+        self.assertEqual(drawn["kbestwood.__init__"], set())
+        self.assertFalse(has_ring(drawn))
+        self.assertEqual(value_faults(trees.values()), [])
+
+    def test_faults_of_files_together_are_seen(self):
+        self.assertTrue(has_ring({"a": {"b"}, "b": {"c"}, "c": {"b"}}))
+        self.assertFalse(has_ring({"a": {"b", "c"}, "b": {"c"}, "c": set()}))
+        for text in ("class A:\n    def many(self):\n        return 1\n\ndef f(x):\n    x.many = 1", "def f(x):\n    return x.many",
+                     "def f(x):\n    x.pop = 1"):
+            self.assertNotEqual(value_faults([ast.parse(text)]), [])
+
     def test_faults_are_seen(self):
         defined = {"kbestwood.errors": {"NoLine"}}
         for text in ("import math", "from random import random", "from .errors import NoLine",
@@ -167,7 +273,12 @@ class Language(unittest.TestCase):
                      "def f(x):\n    return x.format()", "def f(sum):\n    return sum", "def f(*rest):\n    return rest",
                      "def f(x):\n    yield x", "def f(x):\n    return any(k for k in x)", "def _f():\n    pass",
                      "# the type of it", "# \u00e4", "\tX = 1".strip() + "\t", "X = '" + "a" * 120 + "'", "X = 1\n" * 401,
-                     "def f(x):\n" + "    x += 1\n" * 40, "def f(x, y):\n    return x is y", "X = 'a%'"):
+                     "def f(x):\n" + "    x += 1\n" * 40, "def f(x, y):\n    return x is y", "X = 'a%'", "X = len('a')",
+                     "Y = 1\nX = Y + Y", "class A:\n    x = 1", "class A(B, C):\n    pass", "for k in [1]:\n    pass",
+                     "from kbestwood.errors import NoLine\ndef f(NoLine):\n    return 1", "class A:\n    pass\ndef f():\n    A = 1",
+                     "def f(x):\n    y = zip(x, x)\n    return y", "def f(x):\n    return x.items()",
+                     "def f(x):\n    return f(range(x))", "def f(x):\n    return set(x)", "def f(x):\n    return f({k for k in x})",
+                     "def f(x):\n    for k in {x, 1}:\n        f(k)"):
             with self.subTest(text=text[:60]):
                 self.assertNotEqual(faults_of(text, defined, set()), [])
         good = "from kbestwood.errors import NoLine\n\n\ndef f(x):\n    return [k for k in x if k is not None]\n"
