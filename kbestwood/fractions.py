@@ -24,12 +24,19 @@ def fraction(top, bottom):
 
 def sum_of(one, other):
     """The sum of two fractions."""
-    return fraction(one[0] * other[1] + other[0] * one[1], one[1] * other[1])
+    # Only what the bottoms share can have a divisor in common with the top, and to find it of less figures is faster.
+    shared = common_divisor(one[1], other[1])
+    top = one[0] * (other[1] // shared) + other[0] * (one[1] // shared)
+    divisor = common_divisor(top, shared)
+    return (top // divisor, one[1] // shared * (other[1] // divisor))
 
 
 def product_of(one, other):
     """The product of two fractions."""
-    return fraction(one[0] * other[0], one[1] * other[1])
+    # A top can share a divisor with the other one's bottom alone, and to find it of less figures is faster.
+    left = common_divisor(one[0], other[1])
+    right = common_divisor(other[0], one[1])
+    return (one[0] // left * (other[0] // right), one[1] // right * (other[1] // left))
 
 
 def compared(one, other):

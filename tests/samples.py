@@ -60,6 +60,11 @@ SAMPLES = [
     (DEAD, row("a b")), (DEAD, row("a a c b")), (DEAD, row("a a b b")), (DEAD, row("a a b b d")), (CLIMB, row("b a a b")),
     (CLIMB, row("a b")), (CLIMB, row("b a a")), (CLIMB, LATTICE)]
 
+# Those that have more trees, up to some hundred.
+RICHER = [
+    (PAIRS, row("a b a b b a")), (PAIRS, row("a b a b b a a")), (PAIRS_OF_CHANCE, row("a b a a", "chance")),
+    (PAIRS_OF_CHANCE, row("a b b a a", "chance")), (TIED_CHAINS, row("a a a")), (TIED_CHAINS, LATTICE), (TIED_TOP, row("a a a"))]
+
 
 def random_samples(many):
     """Grammars and nets that are put together by lot, but are the same each time."""
@@ -176,3 +181,43 @@ def in_order(grammar, net, trees):
 def parts_of(tree):
     """A tree and all trees in it."""
     return [tree] + [part for kid in tree[1] if isinstance(kid, tuple) for part in parts_of(kid)]
+
+
+def alike(grammar, net):
+    """A grammar and a net with all weights alike, so that rows alone tell the order."""
+    rules = [Rule(rule.title, rule.head, rule.parts, HALF, rule.tag, rule.under) for rule in grammar.rules]
+    return Grammar(grammar.scale, grammar.start, rules), Net(net.places, [edge[:3] + (HALF,) for edge in net.edges])
+
+
+def node_of(grammar, net, tree, above):
+    """The node of a tree beneath a rule, as the document tells it."""
+    head = grammar.rules[tree[0]].head
+    tied = any(rule.head == head and rule.under is not None for rule in grammar.rules)
+    edges = numbers_in(tree)[1]
+    return (head, above if tied else -1, net.edges[edges[0]][0], net.edges[edges[-1]][1])
+
+
+def trees_by_node(wood):
+    """For each node all trees for which it stands, in their order, each with its row (number of a way, ranks)."""
+    made = []
+    for ways in wood.ways:
+        own = []
+        for number, (rule, kids) in enumerate(ways):
+            for ranks in itertools.product(*[range(len(made[kid])) for form, kid in kids if form == "node"]):
+                left = list(ranks)
+                parts = tuple(made[kid][left.pop(0)][0] if form == "node" else kid for form, kid in kids)
+                own.append(((rule, parts), (number, ranks)))
+        made.append(sorted(own, key=lambda pair: order_key(wood.grammar, wood.net, pair[0])))
+    return made
+
+
+def full_paper(wood):
+    """The paper with all rows of all nodes, ended True at each."""
+    return [(True, [row for tree, row in pairs]) for pairs in trees_by_node(wood)]
+
+
+def many_trees(places, scale="cost", edges=1):
+    """A grammar and a net with far more trees than could be made, for 11 places or more."""
+    grammar = grammar_of("s1 S -> S S : 1", "s2 S -> S S : 2/3", "s3 S -> a : 1/2", "s4 S -> S S : 1", "s5 S -> a : 3/5",
+                         scale=scale)
+    return grammar, Net(places, [(at, at + 1, "a", ONE) for at in range(places) for k in range(edges)])

@@ -124,19 +124,31 @@ def import_faults(tree, defined):
 def top_faults(tree):
     """Faults of the top of a file, and of the bodies of classes."""
     faults = []
+    functions, given = set(), []
     for node in tree.body[1:] if ast.get_docstring(tree) else tree.body:
         plain = isinstance(node, ast.Assign) and len(node.targets) == 1 and isinstance(node.targets[0], ast.Name)
-        if plain and not is_plain(node.value) or not plain and not isinstance(node, TOP):
+        if plain and not is_plain(node.value, functions) or not plain and not isinstance(node, TOP):
             faults.append(f"L3 at the top of a file: line {node.lineno}")
+        if plain and any(isinstance(part, (ast.List, ast.Dict)) for part in list(ast.walk(node.value))[1:]):
+            faults.append(f"L15 a list or dict within another: line {node.lineno}")
+        given.extend([node.targets[0].id] if plain else [alias.name for alias in getattr(node, "names", [])])
+        if isinstance(node, ast.FunctionDef):
+            functions.add(node.name)
+        if isinstance(node, (ast.FunctionDef, ast.ClassDef)):
+            given.append(node.name)
         if isinstance(node, ast.ClassDef):
             within = node.body[1:] if ast.get_docstring(node) else node.body
             if len(node.bases) > 1 or node.keywords or not all(isinstance(part, ast.FunctionDef) for part in within):
                 faults.append(f"L5 {node.name}")
-    return faults
+    return faults + [f"L15 {name} is given twice" for name in sorted(set(given)) if given.count(name) > 1]
 
 
-def is_plain(node):
-    """Whether a value is written out."""
+def is_plain(node, functions):
+    """Whether a value is written out, but for functions, which may stand within lists, tuples and dicts."""
+    if isinstance(node, (ast.List, ast.Tuple)):
+        return all(is_plain(part, functions) or getattr(part, "id", "") in functions for part in node.elts)
+    if isinstance(node, ast.Dict):
+        return all(is_plain(part, functions) or getattr(part, "id", "") in functions for part in node.keys + node.values)
     try:
         ast.literal_eval(node)
     except ValueError:
@@ -162,7 +174,8 @@ def place_faults(tree):
         called = holder.func.id if isinstance(holder, ast.Call) and isinstance(holder.func, ast.Name) else ""
         walked = isinstance(holder, (ast.For, ast.comprehension)) and holder.iter is node
         asked = isinstance(holder, ast.Compare) and node in holder.comparators
-        if is_call(node, WALKED) and not walked and not asked and called not in WALKERS:
+        turned = called in ("reversed", "len") and is_call(node, ("range",))
+        if is_call(node, WALKED) and not walked and not asked and not turned and called not in WALKERS:
             faults.append(f"L23 line {node.lineno}")
         kept = isinstance(holder, ast.Assign) and isinstance(holder.targets[0], ast.Name)
         if (isinstance(node, (ast.Set, ast.SetComp)) or is_call(node, ("set", "frozenset"))) and not kept and not asked:
@@ -278,11 +291,13 @@ class Language(unittest.TestCase):
                      "from kbestwood.errors import NoLine\ndef f(NoLine):\n    return 1", "class A:\n    pass\ndef f():\n    A = 1",
                      "def f(x):\n    y = zip(x, x)\n    return y", "def f(x):\n    return x.items()",
                      "def f(x):\n    return f(range(x))", "def f(x):\n    return set(x)", "def f(x):\n    return f({k for k in x})",
-                     "def f(x):\n    for k in {x, 1}:\n        f(k)"):
+                     "def f(x):\n    for k in {x, 1}:\n        f(k)", "X = [f]\ndef f():\n    return 1",
+                     "def f():\n    return 1\nX = f", "X = [[1]]", "X = {1: {}}", "X = 1\nX = 2", "def f():\n    pass\nf = 1"):
             with self.subTest(text=text[:60]):
                 self.assertNotEqual(faults_of(text, defined, set()), [])
         good = "from kbestwood.errors import NoLine\n\n\ndef f(x):\n    return [k for k in x if k is not None]\n"
         self.assertEqual(faults_of(good, defined, set()), [])
+        self.assertEqual(faults_of("def f():\n    return 1\nX = {'a': f, 'b': (1, f)}", defined, set()), [])
 
 
 if __name__ == "__main__":

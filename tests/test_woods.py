@@ -9,20 +9,7 @@ from kbestwood.nets import Net
 from kbestwood.reader import grammar_text
 from kbestwood.woods import Wood, wood_of
 from samples import (ALL_TIED, CHAINS, DEAD, DOGS, HALF, ONE, PAIRS, SAMPLES, TIED, TIED_TOP, all_trees, grammar_of,
-                     random_samples, row)
-
-
-def node_of(grammar, net, tree, above):
-    """The node of a tree beneath a rule, as the document tells it."""
-    head = grammar.rules[tree[0]].head
-    tied = any(rule.head == head and rule.under is not None for rule in grammar.rules)
-    edges = edges_of(tree)
-    return (head, above if tied else -1, net.edges[edges[0]][0], net.edges[edges[-1]][1])
-
-
-def edges_of(tree):
-    """The edges of a tree, from left to right."""
-    return [edge for kid in tree[1] for edge in (edges_of(kid) if isinstance(kid, tuple) else [kid])]
+                     node_of, random_samples, row)
 
 
 def note_ways(grammar, net, tree, above, ways):
