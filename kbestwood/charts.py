@@ -18,7 +18,7 @@ class Chart:
         self.edge_numbers = edges_by_ends(net)
         self.ends = {}
         self.read_words(net)
-        self.read_kinds(grammar, net.places)
+        self.read_kinds(grammar, spans_of(net))
 
     def seats_beneath(self, rule, number):
         """The seats of a rule's parts, in order."""
@@ -39,15 +39,14 @@ class Chart:
         for begin, end, word, weight in net.edges:
             self.note((word, -1), begin, end)
 
-    def read_kinds(self, grammar, places):
-        """Notes where kinds may end, by where they begin."""
+    def read_kinds(self, grammar, spans):
+        """Notes where kinds may end, by where they begin, for spans of which the shorter ones come first."""
         # What a kind is made of is shorter, or, for a rule of one part, of a head that stands ahead of it.
         heads = heads_in_order(grammar.rules)
         numbers = [numbers_of(head, grammar.rules) for head in heads]
-        for length in range(1, places + 1):
-            for begin in range(places + 1 - length):
-                for head, own in zip(heads, numbers):
-                    self.read_kind(head, own, begin, begin + length)
+        for length, begin in spans:
+            for head, own in zip(heads, numbers):
+                self.read_kind(head, own, begin, begin + length)
 
     def read_kind(self, kind, numbers, begin, end):
         """Notes for which seats of a kind, with the numbers of its rules, there is a tree between two places."""
@@ -115,3 +114,10 @@ def edges_by_ends(net):
     for number, (begin, end, word, weight) in enumerate(net.edges):
         numbers.setdefault((begin, end, word), []).append(number)
     return numbers
+
+
+def spans_of(net):
+    """Each (length, begin) from a place where an edge begins to one where an edge ends, the shorter ones first."""
+    begins = sorted({edge[0] for edge in net.edges})
+    ends = sorted({edge[1] for edge in net.edges})
+    return sorted([(end - begin, begin) for begin in begins for end in ends if begin < end])
