@@ -3,6 +3,7 @@
 import fractions
 import functools
 import itertools
+import operator
 import random
 
 from kbestwood.errors import Ring
@@ -214,6 +215,23 @@ def trees_by_node(wood):
 def full_paper(wood):
     """The paper with all rows of all nodes, ended True at each."""
     return [(True, [row for tree, row in pairs]) for pairs in trees_by_node(wood)]
+
+
+def first_by_hand(wood, many):
+    """The first trees of a wood: for each node all that its kids' first ones make, cut to so many."""
+    weights = [fractions.Fraction(*rule.weight) for rule in wood.grammar.rules]
+    edges = [[(fractions.Fraction(*edge[3]), [number], number)] for number, edge in enumerate(wood.net.edges)]
+    put = operator.add if wood.grammar.scale == "cost" else operator.mul
+    sign = 1 if wood.grammar.scale == "cost" else -1
+    made = []
+    for ways in wood.ways:
+        own = []
+        for number, kids in ways:
+            for parts in itertools.product(*[made[kid] if form == "node" else edges[kid] for form, kid in kids]):
+                weight = functools.reduce(put, [part[0] for part in parts], weights[number])
+                own.append((weight, sum([part[1] for part in parts], [number]), (number, tuple(part[2] for part in parts))))
+        made.append(sorted(own, key=lambda one: (sign * one[0], one[1]))[:many])
+    return [tree for weight, row, tree in made[wood.top]]
 
 
 def many_trees(places, scale="cost", edges=1):

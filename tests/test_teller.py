@@ -1,11 +1,9 @@
 """Points [19] and [21]: the teller and its paper; [1] and [2] as far as they touch it."""
 
 import copy
-import fractions
 import functools
 import inspect
 import itertools
-import operator
 import unittest
 
 from kbestwood import teller
@@ -14,8 +12,8 @@ from kbestwood.papers import paper_holds, paper_trees
 from kbestwood.teller import Teller, first_trees
 from kbestwood.trees import tree_fault
 from kbestwood.woods import wood_of
-from samples import (ALL_TIED, CHAINS, DOGS, EMPTY, LATTICE, ONE, PAIRS, RICHER, SAMPLES, TIED_TOP, all_trees, alike, full_paper,
-                     grammar_of, in_order, many_trees, order_key, random_samples, row, trees_by_node)
+from samples import (ALL_TIED, CHAINS, DOGS, EMPTY, LATTICE, ONE, PAIRS, RICHER, SAMPLES, TIED_TOP, all_trees, alike,
+                     first_by_hand, full_paper, grammar_of, in_order, many_trees, order_key, random_samples, row, trees_by_node)
 
 NO_TREES = [(DOGS, row("dogs")), (ALL_TIED, row("a")), (PAIRS, EMPTY), (PAIRS, row("a c a"))]
 
@@ -30,23 +28,6 @@ def woods_and_trees():
         if len(trees) <= 300:
             made.append((wood_of(grammar, net), in_order(grammar, net, trees)))
     return made
-
-
-def first_by_hand(wood, many):
-    """The first trees of a wood: for each node all that its kids' first ones make, cut to so many."""
-    weights = [fractions.Fraction(*rule.weight) for rule in wood.grammar.rules]
-    edges = [[(fractions.Fraction(*edge[3]), [number], number)] for number, edge in enumerate(wood.net.edges)]
-    put = operator.add if wood.grammar.scale == "cost" else operator.mul
-    sign = 1 if wood.grammar.scale == "cost" else -1
-    made = []
-    for ways in wood.ways:
-        own = []
-        for number, kids in ways:
-            for parts in itertools.product(*[made[kid] if form == "node" else edges[kid] for form, kid in kids]):
-                weight = functools.reduce(put, [part[0] for part in parts], weights[number])
-                own.append((weight, sum([part[1] for part in parts], [number]), (number, tuple(part[2] for part in parts))))
-        made.append(sorted(own, key=lambda one: (sign * one[0], one[1]))[:many])
-    return [tree for weight, row, tree in made[wood.top]]
 
 
 class Interface(unittest.TestCase):
