@@ -31,6 +31,24 @@ def sum_of(one, other):
     return (top // divisor, one[1] // shared * (other[1] // divisor))
 
 
+def loose_sum(one, other):
+    """The sum of two fractions, over the least bottom that is a multiple of both; maybe not in lowest terms."""
+    shared = common_divisor(one[1], other[1])
+    return (one[0] * (other[1] // shared) + other[0] * (one[1] // shared), one[1] // shared * other[1])
+
+
+def lowest(one, bases):
+    """A loose fraction in lowest terms, where each prime divisor of its bottom is also one of some base."""
+    # Bases of few figures each are much faster to go through than one search for a divisor of two long numbers.
+    top, bottom = one
+    for base in bases:
+        divisor = common_divisor(bottom, common_divisor(top, base))
+        while divisor > 1:
+            top, bottom = top // divisor, bottom // divisor
+            divisor = common_divisor(bottom, common_divisor(top, divisor))
+    return (top, bottom)
+
+
 def product_of(one, other):
     """The product of two fractions."""
     # A top can share a divisor with the other one's bottom alone, and to find it of less figures is faster.

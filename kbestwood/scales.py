@@ -1,7 +1,7 @@
 """The two scales, which tell how weights are put together, and lumps of weights."""
 
 from kbestwood.errors import NoScale
-from kbestwood.fractions import compared, product_of, sum_of
+from kbestwood.fractions import compared, fraction, loose_sum, product_of, sum_of
 
 
 class Scale:
@@ -27,9 +27,14 @@ class Scale:
         """Whether the one weight stands ahead of the other."""
         raise NotImplementedError("a plain scale has no order")
 
+    def loosely_joined(self, one, other):
+        """Two lumps joined, with a sum that may not be in lowest terms."""
+        raise NotImplementedError("a plain scale joins nothing")
+
     def lumps_joined(self, one, other):
         """The lump of all things made of one of the one and one of the other."""
-        raise NotImplementedError("a plain scale joins nothing")
+        count, (top, bottom) = self.loosely_joined(one, other)
+        return (count, fraction(top, bottom))
 
     def together(self, weights):
         """A list of weights together."""
@@ -62,12 +67,12 @@ class Cost(Scale):
         """Whether the one weight stands ahead of the other: the lesser one does."""
         return compared(one, other) < 0
 
-    def lumps_joined(self, one, other):
-        """The lump of all things made of one of the one and one of the other."""
+    def loosely_joined(self, one, other):
+        """Two lumps joined, with a sum that may not be in lowest terms."""
+        count, (top, bottom) = one
+        other_count, (other_top, other_bottom) = other
         # Each weight of the one stands in as many things as the other counts, and the other way about.
-        from_one = product_of((other[0], 1), one[1])
-        from_other = product_of((one[0], 1), other[1])
-        return (one[0] * other[0], sum_of(from_one, from_other))
+        return (count * other_count, loose_sum((other_count * top, bottom), (count * other_top, other_bottom)))
 
 
 class Chance(Scale):
@@ -93,9 +98,11 @@ class Chance(Scale):
         """Whether the one weight stands ahead of the other: the greater one does."""
         return compared(one, other) > 0
 
-    def lumps_joined(self, one, other):
-        """The lump of all things made of one of the one and one of the other."""
-        return (one[0] * other[0], product_of(one[1], other[1]))
+    def loosely_joined(self, one, other):
+        """Two lumps joined, with a sum that may not be in lowest terms."""
+        count, (top, bottom) = one
+        other_count, (other_top, other_bottom) = other
+        return (count * other_count, (top * other_top, bottom * other_bottom))
 
 
 def scale_of(word):
@@ -115,3 +122,8 @@ def lump_of(weight):
 def lumps_beside(one, other):
     """The lump of the things of two lumps side by side."""
     return (one[0] + other[0], sum_of(one[1], other[1]))
+
+
+def loosely_beside(one, other):
+    """Two lumps side by side, with a sum that may not be in lowest terms."""
+    return (one[0] + other[0], loose_sum(one[1], other[1]))

@@ -7,7 +7,8 @@ import unittest
 
 from kbestwood import fractions
 from kbestwood.errors import NoLine, NoScale, WoodError
-from kbestwood.fractions import compared, fraction, fraction_text, product_of, read_fraction, sum_of
+from kbestwood.fractions import (compared, fraction, fraction_text, loose_sum, lowest, product_of, read_fraction,
+                                 sum_of)
 
 FORTY = 10 ** 39 + 7
 LONGEST = 10 ** 40 - 1
@@ -113,6 +114,37 @@ class Reckoning(FractionCase):
         self.assertEqual(added, due(added_due))
         self.assertEqual(multiplied, due(multiplied_due))
         self.assertGreater(len(str(added[1])), 1000)
+
+
+class Loosely(FractionCase):
+    """Sums that may not be in lowest terms, and how they are brought there."""
+
+    def test_sums(self):
+        self.assertEqual(loose_sum((1, 6), (1, 6)), (2, 6))
+        self.assertEqual(loose_sum((1, 4), (1, 6)), (5, 12))
+        self.assertEqual(loose_sum((1, 2), (-1, 2)), (0, 2))
+        self.assertEqual(loose_sum((2, 4), (3, 6)), (12, 12))
+        for one in SOME:
+            for other in SOME:
+                top, bottom = loose_sum(one, other)
+                self.assertEqual(fraction(top, bottom), sum_of(one, other))
+                self.assertEqual(bottom, math.lcm(one[1], other[1]))
+
+    def test_lowest(self):
+        self.assertEqual(lowest((12, 8), [2]), (3, 2))
+        self.assertEqual(lowest((0, 36), [6]), (0, 1))
+        self.assertEqual(lowest((0, 36), [2, 3]), (0, 1))
+        self.assertEqual(lowest((-30, 36), [4, 9]), (-5, 6))
+        self.assertEqual(lowest((7, 1), []), (7, 1))
+        self.assertEqual(lowest((2 ** 300, 2 ** 301), [1, 2]), (1, 2))
+        self.assertEqual(lowest((6 ** 40, 10 ** 39), [10, 7]), (6 * 3 ** 39, 5 ** 39))
+
+    def test_lowest_against_python(self):
+        for bases in ([2, 3, 5], [6, 10, 15], [30], [4, 27, 25, 12], [LONGEST, 2, 15], [FORTY, 6, 5]):
+            bottoms = [one ** power * other for one in bases for other in bases for power in (0, 1, 3)]
+            for bottom in bottoms:
+                for top in [0, 1, -1, 7, 60, -90, 2 ** 9 * 3 ** 5, 15 ** 7, LONGEST, -FORTY ** 2] + bottoms:
+                    self.assertEqual(lowest((top, bottom), bases), due(oracle.Fraction(top, bottom)))
 
 
 class Comparing(unittest.TestCase):

@@ -200,6 +200,14 @@ class Great(unittest.TestCase):
                 brackets = BRACKETS[end - begin] * BRACKETS[12 - (end - begin) + 1]
                 self.assertEqual(beside(lumps_told), self.lump(12, scale, brackets))
 
+    def test_great_weights(self):
+        # Forty figures above and beneath the stroke; the last one shares divisors with others.
+        great = 10 ** 39
+        self.pairs = [reduced((great + 7, 3 * great + 1)), reduced((5 * great + 1, great + 3)), reduced((great + 2, 6 * great))]
+        self.words = [reduced((great + 9, 7 * great + 3)), reduced((6 * great, great + 2))]
+        self.test_inside_and_total()
+        self.test_passing()
+
     def test_side_by_side(self):
         check = Lumps("check_sides").check_sides
         check(self.wood(8, "cost"))

@@ -6,7 +6,7 @@ import unittest
 from kbestwood import scales
 from kbestwood.errors import NoScale
 from kbestwood.fractions import compared, fraction, product_of, sum_of
-from kbestwood.scales import Chance, Cost, Scale, lump_of, lumps_beside, scale_of
+from kbestwood.scales import Chance, Cost, Scale, loosely_beside, lump_of, lumps_beside, scale_of
 
 FORTY = 10 ** 39 + 7
 LONGEST = 10 ** 40 - 1
@@ -202,6 +202,18 @@ class Lumps(unittest.TestCase):
                     with self.subTest(word=word, ones=ones, others=others):
                         made = [scale.join(one, other) for one in ones for other in others]
                         self.assertEqual(scale.lumps_joined(lump_of_all(ones), lump_of_all(others)), lump_of_all(made))
+
+    def test_loosely(self):
+        self.assertEqual(loosely_beside((1, (1, 6)), (2, (1, 6))), (3, (2, 6)))
+        self.assertEqual(Chance().loosely_joined((2, (2, 3)), (3, (3, 4))), (6, (6, 12)))
+        self.assertEqual(Cost().loosely_joined((2, (1, 6)), (3, (1, 4))), (6, (12, 12)))
+        some = [(2, (1, 2)), (3, (7, 12)), (1, (-3, 4)), NO_LUMP, (FORTY, (FORTY, LONGEST))]
+        for one in some:
+            for other in some:
+                for tell, tidy in ((loosely_beside, lumps_beside), (Cost().loosely_joined, Cost().lumps_joined),
+                                   (Chance().loosely_joined, Chance().lumps_joined)):
+                    count, (top, bottom) = tell(one, other)
+                    self.assertEqual((count, fraction(top, bottom)), tidy(one, other))
 
     def test_great_counts(self):
         many = 10 ** 200

@@ -193,6 +193,12 @@ class Great(unittest.TestCase):
         grammar = grammar_of("s1 S -> S S : 1/2", "s2 S -> A A : 2", "a1 A -> S : 1", "s3 S -> a : 1", "a2 A -> a : 3",
                              "s4 S -> S a S : 1 under s1", "a3 A -> A A S : 1/3 under a3 s2", "s5 S -> a a : 3")
         yield wood_of(grammar, row(" ".join("a" * 11)))
+        # Weights of forty figures above and beneath the stroke.
+        great = 10 ** 39
+        grammar = grammar_of(f"s1 S -> S S : {great + 7}/{great + 9}", f"s2 S -> S S : {great + 9}/{great + 7}",
+                             f"s3 S -> a : {great + 1}/{great + 3}", f"s4 S -> a : {great + 3}/{great + 1}", scale="chance")
+        edges = [(at, at + 1, "a", (great + 2 * at + 1, great + 2 * at + 2)) for at in range(12)]
+        yield wood_of(grammar, Net(12, edges))
 
     def test_the_first_ones(self):
         for number, wood in enumerate(self.great_woods()):
